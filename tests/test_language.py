@@ -1,4 +1,4 @@
-"""Holds the package to those rules of its language that can be read off its text."""
+"""Holds the package to some of the rules of its language: not to all, so a pass here is no proof."""
 
 import ast
 import builtins
