@@ -1,8 +1,12 @@
-"""Tables for the tests, and a plain second telling of what group_of should answer."""
+"""Tables for the tests, and plain second tellings of what the program should answer."""
 
+import functools
 import itertools
 
+from tracebook.errors import BookError
 from tracebook.tables import group_of
+
+GREAT = 10 ** 599 + 123456789
 
 
 def cyclic(many):
@@ -41,6 +45,25 @@ def doubled(table, other):
     """The table of pairs, one thing of each of two tables."""
     pairs = [(a, b) for a in range(len(table)) for b in range(len(other))]
     return [[table[a][c] * len(other) + other[b][d] for c, d in pairs] for a, b in pairs]
+
+
+def of_tuples(sizes, put):
+    """The table of all tuples with entries below these sizes; put tells a product, still to be brought below them."""
+    things = list(itertools.product(*[range(size) for size in sizes]))
+    number = {thing: k for k, thing in enumerate(things)}
+
+    def product(one, other):
+        return number[tuple(entry % size for entry, size in zip(put(one, other), sizes))]
+
+    return [[product(one, other) for other in things] for one in things]
+
+
+def abelian(*sizes):
+    return of_tuples(sizes, lambda a, b: [x + y for x, y in zip(a, b)])
+
+
+def dihedral(sides):
+    return two_step(sides, 2, sides - 1, 0)
 
 
 def renamed(table, names):
@@ -89,9 +112,143 @@ TABLES = dict(PLAIN_TABLES)
 TABLES.update({name + ", shuffled": shuffled(table) for name, table in PLAIN_TABLES.items()})
 
 
+# Each group of at most 23 things under one of its tables: all 59 of them.
+EVERY_TABLE = {f"cyclic {many}": cyclic(many) for many in range(1, 24)}
+EVERY_TABLE.update({
+    "x".join(map(str, sizes)): abelian(*sizes)
+    for sizes in [(2, 2), (2, 4), (2, 2, 2), (3, 3), (2, 6), (2, 8), (4, 4), (2, 2, 4), (2, 2, 2, 2), (3, 6), (2, 10)]
+})
+EVERY_TABLE.update({f"dihedral {sides}": dihedral(sides) for sides in range(3, 12)})
+EVERY_TABLE.update({
+    "quaternion": QUATERNION,
+    "dicyclic 12": two_step(6, 2, 5, 3),
+    "even 4": EVEN_4,
+    "square x 2": doubled(SQUARE, cyclic(2)),
+    "quaternion x 2": doubled(QUATERNION, cyclic(2)),
+    "square and 4 with one middle": of_tuples(
+        (4, 2, 2), lambda a, b: (a[0] + b[0] + 2 * a[2] * b[1], a[1] + b[1], a[2] + b[2])
+    ),
+    "2x2 turned by 4": of_tuples((4, 2, 2), lambda a, b: (a[0] + b[0], a[1] + b[1] + a[2] * b[0], a[2] + b[2])),
+    "4 turned by 4": two_step(4, 4, 3, 0),
+    "modular 16": two_step(8, 2, 5, 0),
+    "half dihedral 16": two_step(8, 2, 3, 0),
+    "quaternion 16": two_step(8, 2, 7, 4),
+    "symmetric 3 x 3": doubled(SYMMETRIC_3, cyclic(3)),
+    "3x3 turned over": of_tuples(
+        (3, 3, 2), lambda a, b: (a[0] + (-1) ** a[2] * b[0], a[1] + (-1) ** a[2] * b[1], a[2] + b[2])
+    ),
+    "dicyclic 20": two_step(10, 2, 9, 5),
+    "five turned by 4": two_step(5, 4, 2, 0),
+    "seven turned by 3": two_step(7, 3, 2, 0),
+})
+
+
 def groups():
     """Each sample's name, the group made of it, and its table."""
     return [(name, group_of(table), table) for name, table in TABLES.items()]
+
+
+def every_group():
+    """Like groups, for each group of at most 23 things, twice: under a plain and under a shuffled table."""
+    plain = list(EVERY_TABLE.items())
+    tables = plain + [(name + ", shuffled", shuffled(table)) for name, table in plain]
+    return [(name, group_of(table), table) for name, table in tables]
+
+
+def outcome(call, *arguments):
+    """What a call tells, or the name of its refusal and the fields of that."""
+    try:
+        return call(*arguments)
+    except BookError as refusal:
+        return (refusal.__class__.__name__, vars(refusal))
+
+
+def unit_in(table):
+    return next(e for e in range(len(table)) if table[e] == list(range(len(table))))
+
+
+def back_in(table, thing):
+    return table[thing].index(unit_in(table))
+
+
+def turned_in(table, thing, by):
+    return table[table[by][thing]][back_in(table, by)]
+
+
+def least_part(table, some):
+    """The least part with some things, as a rising list."""
+    found = {unit_in(table), *some}
+    while True:
+        more = found | {table[a][b] for a in found for b in found}
+        if more == found:
+            return sorted(found)
+        found = more
+
+
+def is_part(table, some):
+    inside = set(some)
+    return (
+        inside != set()
+        and some == sorted(inside)
+        and inside <= set(range(len(table)))
+        and inside >= {table[a][b] for a in some for b in some}
+    )
+
+
+def parts(table):
+    """All parts."""
+    return [list(part) for part in all_parts(tuple(map(tuple, table)))]
+
+
+@functools.lru_cache(maxsize=None)
+def all_parts(table):
+    table = [list(row) for row in table]
+    found = {tuple(least_part(table, []))}
+    while True:
+        more = found | {tuple(least_part(table, [*part, a])) for part in found for a in range(len(table))}
+        if more == found:
+            return sorted(found)
+        found = more
+
+
+def mixed_part(table, part):
+    return least_part(table, {table[table[a][b]][back_in(table, table[b][a])] for a in part for b in part})
+
+
+def first_lead_out(table, part):
+    """The first t and h such that h turned by t is not in the part, or None."""
+    for t in range(len(table)):
+        for h in part:
+            if turned_in(table, h, t) not in part:
+                return (t, h)
+    return None
+
+
+def first_fault(table, part, marks, spokes):
+    """The first two things of the part at which marks are no one-row way, or None."""
+    mark = dict(zip(part, marks))
+    for a, b in itertools.product(part, repeat=2):
+        if (mark[table[a][b]] - mark[a] - mark[b]) % spokes:
+            return (a, b)
+    return None
+
+
+def one_row_ways(table, part, spokes):
+    """All one-row ways of a part, found by trying all marks of some things of which the others are products."""
+    makers = []
+    while least_part(table, makers) != part:
+        makers.append(next(a for a in part if a not in least_part(table, makers)))
+    found = []
+    for marks in itertools.product(range(spokes), repeat=len(makers)):
+        mark = {unit_in(table): 0}
+        while len(mark) < len(part):
+            for a in list(mark):
+                for maker, step in zip(makers, marks):
+                    mark.setdefault(table[a][maker], (mark[a] + step) % spokes)
+        way = [mark[a] for a in part]
+        if first_fault(table, part, way, spokes) is None:
+            found.append(way)
+    return sorted(found)
 
 
 def verdict(table):

@@ -4,11 +4,10 @@ import itertools
 import unittest
 
 from tests import samples
+from tests.samples import GREAT
 from tracebook import tables
 from tracebook.errors import BadSize, BookError, NoBack, NotTogether, NoUnit, Stranger
 from tracebook.tables import Group, group_of, order, power, product, turns
-
-GREAT = 10 ** 599 + 123456789
 
 
 def answer(table):

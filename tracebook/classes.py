@@ -31,11 +31,12 @@ def turner(group, thing, other):
 
 
 def middle(group):
-    return [thing for thing in range(group.many) if goes_with_all(group, thing)]
+    things = list(range(group.many))
+    return [thing for thing in things if goes_with(group, thing, things)]
 
 
-def goes_with_all(group, thing):
-    for other in range(group.many):
+def goes_with(group, thing, others):
+    for other in others:
         if group.rows[thing][other] != group.rows[other][thing]:
             return False
     return True
