@@ -5,6 +5,7 @@ import itertools
 
 from tracebook.errors import BookError
 from tracebook.tables import group_of
+from tracebook.wheels import Wheel
 
 GREAT = 10 ** 599 + 123456789
 
@@ -249,6 +250,86 @@ def one_row_ways(table, part, spokes):
         if first_fault(table, part, way, spokes) is None:
             found.append(way)
     return sorted(found)
+
+
+def no_parts(table):
+    """Lists of every sort that are no parts of a group with more than three things."""
+    many = len(table)
+    full = list(range(many))
+    unit = unit_in(table)
+    other = next(a for a in full if a != unit and table[a][a] != unit)
+    return {
+        "empty": [],
+        "the unit twice": [unit, unit],
+        "all things, falling": full[::-1],
+        "all things, two exchanged": [1, 0] + full[2:],
+        "all things, the last one twice": full + [many - 1],
+        "all things twice": full + full,
+        "the unit 240 times": [unit] * 240,
+        "-1 alone": [-1],
+        "-1 ahead of all things": [-1] + full,
+        "one number too great": [many],
+        "all things and one number too great": full + [many],
+        "numbers up to 239": list(range(240)),
+        "numbers far below nought": [-GREAT, unit],
+        "a very great number": [unit, GREAT],
+        "very great numbers alone": [GREAT, GREAT + 1],
+        "no unit": [a for a in full if a != unit],
+        "one thing that is not the unit": [other],
+        "a square outside": sorted([unit, other]),
+        "all things but one": [a for a in full if a != other],
+    }
+
+
+def greatest(least):
+    """The greatest number of spokes that serves a group with these turns."""
+    return 60 // least * least
+
+
+def bad_marks(part, spokes):
+    """Lists that are no marks of a part."""
+    many = len(part)
+    yield []
+    yield [0] * (many + 1)
+    yield [0] * 240
+    if many > 1:
+        yield [0] * (many - 1)
+    for place in {0, many // 2, many - 1}:
+        for number in (-1, -spokes, spokes, spokes + 1, GREAT, -GREAT):
+            marks = [0] * many
+            marks[place] = number
+            yield marks
+
+
+def sides_in(table, part):
+    return sorted({tuple(sorted(table[a][h] for h in part)) for a in range(len(table))})
+
+
+def splits(table, part):
+    """For each thing y.h, y being the carrier of a side and h in the part: the side's number and h's place."""
+    sides = sides_in(table, part)
+    return {table[side[0]][h]: (number, k) for number, side in enumerate(sides) for k, h in enumerate(part)}
+
+
+def inner_table(table, part):
+    return [[part.index(table[a][b]) for b in part] for a in part]
+
+
+@functools.lru_cache(maxsize=None)
+def wheel_of(spokes):
+    return Wheel(spokes)
+
+
+def sum_with_backed(one, other):
+    """The sum, over all things, of the trace by one way times the backed trace by another, as a whole number."""
+    counts = [0] * one.spokes
+    for thing in range(one.group.many):
+        backed = [(k, many) for k, many in enumerate(other.trace(thing)) if many]
+        for j, times in enumerate(one.trace(thing)):
+            for k, many in backed if times else ():
+                counts[(j - k) % one.spokes] += times * many
+    wheel = wheel_of(one.spokes)
+    return wheel.whole(wheel.lowest(counts))
 
 
 def verdict(table):

@@ -24,11 +24,6 @@ def cases(names=SOME):
             yield name, group, group.rows, part, turns(group)
 
 
-def greatest(least):
-    """The greatest number of spokes that serves a group with these turns."""
-    return 60 // least * least
-
-
 def grown_verdict(table, part, marks, thing, spokes):
     """What grown should answer where part, spokes and marks are in order, in the form of outcome."""
     fault = samples.first_fault(table, part, marks, spokes)
@@ -111,23 +106,10 @@ class Spokes(unittest.TestCase):
 
 
 class Marks(unittest.TestCase):
-    def bad_marks(self, part, spokes):
-        many = len(part)
-        yield []
-        yield [0] * (many + 1)
-        yield [0] * 240
-        if many > 1:
-            yield [0] * (many - 1)
-        for place in {0, many // 2, many - 1}:
-            for number in (-1, -spokes, spokes, spokes + 1, GREAT, -GREAT):
-                marks = [0] * many
-                marks[place] = number
-                yield marks
-
     def test_refused(self):
         for name, group, table, part, least in cases(("symmetric 3", "quaternion, shuffled", "cyclic 23")):
-            for spokes in (least, greatest(least)):
-                for marks in self.bad_marks(part, spokes):
+            for spokes in (least, samples.greatest(least)):
+                for marks in samples.bad_marks(part, spokes):
                     kept = list(marks)
                     for ask in (first_break, lambda g, p, m, s: grown(g, p, m, g.unit, s)):
                         with self.assertRaises(BookError) as caught:
@@ -138,7 +120,7 @@ class Marks(unittest.TestCase):
 
     def test_the_greatest_mark_is_none_of_these(self):
         for name, group, table, part, least in cases():
-            for spokes in (least, greatest(least)):
+            for spokes in (least, samples.greatest(least)):
                 told = outcome(first_break, group, part, [spokes - 1] * len(part), spokes)
                 self.assertNotEqual(told, ("BadMarks", {}))
 
@@ -174,7 +156,7 @@ class FirstBreak(unittest.TestCase):
 
     def test_one_mark_changed(self):
         for name, group, table, part, least in cases():
-            spokes = greatest(least)
+            spokes = samples.greatest(least)
             for way in samples.one_row_ways(table, part, least):
                 marks = [mark * (spokes // least) for mark in way]
                 self.assertIsNone(first_break(group, part, marks, spokes))
@@ -339,7 +321,7 @@ class Ones(unittest.TestCase):
     def test_more_spokes_than_the_turns(self):
         for name, group, table in samples.every_group():
             least = turns(group)
-            spokes = greatest(least)
+            spokes = samples.greatest(least)
             for part in samples.parts(table):
                 wanted = [[mark * (spokes // least) for mark in way] for way in ones(group, part)]
                 self.assertEqual(ones(group, part, spokes), wanted, (name, part))

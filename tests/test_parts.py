@@ -13,35 +13,6 @@ from tracebook.tables import Group, group_of, product
 ASKS = (mixed, sides, way_out, folded, inner)
 
 
-def no_parts(table):
-    """Lists of every sort that are no parts of a group with more than three things."""
-    many = len(table)
-    full = list(range(many))
-    unit = samples.unit_in(table)
-    other = next(a for a in full if a != unit and table[a][a] != unit)
-    return {
-        "empty": [],
-        "the unit twice": [unit, unit],
-        "all things, falling": full[::-1],
-        "all things, two exchanged": [1, 0] + full[2:],
-        "all things, the last one twice": full + [many - 1],
-        "all things twice": full + full,
-        "the unit 240 times": [unit] * 240,
-        "-1 alone": [-1],
-        "-1 ahead of all things": [-1] + full,
-        "one number too great": [many],
-        "all things and one number too great": full + [many],
-        "numbers up to 239": list(range(240)),
-        "numbers far below nought": [-GREAT, unit],
-        "a very great number": [unit, GREAT],
-        "very great numbers alone": [GREAT, GREAT + 1],
-        "no unit": [a for a in full if a != unit],
-        "one thing that is not the unit": [other],
-        "a square outside": sorted([unit, other]),
-        "all things but one": [a for a in full if a != other],
-    }
-
-
 class Interface(unittest.TestCase):
     def test_names_and_arguments(self):
         wanted = {
@@ -69,7 +40,7 @@ class NoParts(unittest.TestCase):
     def test_each_sort_is_refused_by_each_ask(self):
         for name in ("cyclic 6", "cyclic 23, shuffled", "symmetric 3", "quaternion, shuffled", "twenty-one"):
             group = group_of(samples.TABLES[name])
-            for sort, some in no_parts(group.rows).items():
+            for sort, some in samples.no_parts(group.rows).items():
                 for ask in ASKS:
                     with self.subTest(name, sort=sort, ask=ask.__name__):
                         self.refused(ask, group, some)
@@ -113,7 +84,7 @@ class NoParts(unittest.TestCase):
         group = group_of(samples.SQUARE)
         before = copy.deepcopy(vars(group))
         first = [samples.outcome(ask, group, [0, 4]) for ask in (mixed, sides, way_out, folded)]
-        for some in no_parts(samples.SQUARE).values():
+        for some in samples.no_parts(samples.SQUARE).values():
             for ask in ASKS:
                 self.refused(ask, group, some)
         self.assertEqual(vars(group), before)

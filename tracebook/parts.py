@@ -68,6 +68,10 @@ def side_of(group, part, thing):
     return sorted([group.rows[thing][other] for other in part])
 
 
+def carriers_of(group, part):
+    return [side[0] for side in sides(group, part)]
+
+
 def way_out(group, part):
     check_part(group, part)
     for by in range(group.many):
@@ -89,7 +93,7 @@ def folded(group, part):
     found = way_out(group, part)
     if found is not None:
         raise NotSteady(found[0], found[1])
-    carriers = [side[0] for side in sides(group, part)]
+    carriers = carriers_of(group, part)
     numbers = [carriers.index(side_of(group, part, thing)[0]) for thing in range(group.many)]
     # The part is steady, so any two things of two sides tell the same product of sides.
     rows = [[numbers[group.rows[one][other]] for other in carriers] for one in carriers]
